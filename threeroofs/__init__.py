@@ -1,0 +1,1 @@
+"""Threeroofs: where copies lie and how they come to agree."""

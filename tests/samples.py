@@ -1,0 +1,53 @@
+"""Dicts of houses that several tests go through, and what the tests reckon on their own."""
+
+import itertools
+
+# Under one roof and several, in one room and several; words that begin one another; rooms of one name under two roofs.
+NAMES = [
+    "a.a.a", "a.a.aa", "a.aa.a", "aa.a.a", "aa.a.b", "aa.aa.a", "b.a.a", "b.1.a", "1.a.a", "1.1.a", "1.1.11", "11.1.1",
+    "a.a.b", "a.b.a", "north.2.a",
+]
+
+
+def words_of(name):
+    return name.split(".")
+
+
+def turned(houses):
+    """The same dict with its entries the other way round."""
+    return dict(reversed(list(houses.items())))
+
+
+def rows_of_houses(names, most):
+    """Each choice of up to so many of the names, in each order: drawer 0 sets them in just that order."""
+    for many in range(most + 1):
+        for row in itertools.permutations(names, many):
+            yield {name: (plot,) for plot, name in enumerate(row)}
+
+
+def all_houses(names, plots):
+    """Each way in which each of the plots is one house's or nobody's."""
+    for owners in itertools.product([None] + names, repeat=len(plots)):
+        houses = {}
+        for plot, owner in zip(plots, owners):
+            if owner is not None:
+                houses[owner] = houses.get(owner, ()) + (plot,)
+        yield houses
+
+
+def some_houses(chooser, held=None):
+    """A dict of houses that hold so many plots together, or any number of them, tuples rising."""
+    if held is None:
+        held = chooser.randrange(12)
+    names = chooser.sample(NAMES, chooser.randint(1, 11))
+    houses = {}
+    for plot in sorted(chooser.sample(range(11), held)):
+        name = chooser.choice(names)
+        houses[name] = houses.get(name, ()) + (plot,)
+    return houses
+
+
+def pairs_of(names):
+    """The crowd, pair by pair."""
+    pairs = [(words_of(one), words_of(other)) for one, other in itertools.combinations(names, 2)]
+    return (len([1 for one, other in pairs if one[0] == other[0]]), len([1 for one, other in pairs if one[:2] == other[:2]]))

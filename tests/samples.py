@@ -51,3 +51,26 @@ def pairs_of(names):
     """The crowd, pair by pair."""
     pairs = [(words_of(one), words_of(other)) for one, other in itertools.combinations(names, 2)]
     return (len([1 for one, other in pairs if one[0] == other[0]]), len([1 for one, other in pairs if one[:2] == other[:2]]))
+
+
+# Each under a roof of its own; in drawer 0, so for the keys 0, 110 and 220, they stand in the order of their names.
+FIVE = {"a.1.a": (0,), "b.1.a": (1,), "c.1.a": (2,), "d.1.a": (3,), "e.1.a": (4,)}
+A, B, C, D, E = sorted(FIVE)
+
+# What Python takes as equal to a key, or can't ask a dict for, is among them.
+NO_KEYS = [-1, 256, 1000, 10 ** 30, True, False, None, "", "0", "x", A, 0.0, 1.0, [], [0], (), (0,), {}, {0: 0}, {0}, b"0"]
+NO_HOUSES = ["", "a", "a.1", "a.1.", ".1.a", "a.1.a.a", "A.1.a", "a.1.a ", "a. 1.a", "a.1.abcdefghi", None, 0, 1, True, 1.5, [],
+             [A], (), (A,), {}, {A: (0,)}, {A}, b"a.1.a"]
+NO_NUMBERS = [0, -1, 10 ** 30, True, False, None, "", "1", 1.0, [], [1], (), (1,), {}, {1: 1}, {1}, b"1"]
+NO_WORDS = ["", "X", "x ", " x", "x.y", "x-y", "abcdefghi", A, None, 0, 1, True, 1.5, [], ["x"], (), ("x",), {}, {"x": 1}, {"x"}, b"x"]
+NO_VALUES = ["", " ", "a b", "v" * 41, "\n", "v\n", "\t", None, 0, 1, True, 1.5, [], ["v"], (), ("v",), {}, {"v": 1}, {"v"}, b"v"]
+
+
+def refused(case, refusal, field, handed, deed, *arguments):
+    """The deed is refused with that very class, and the refusal's field is what was handed in."""
+    with case.assertRaises(refusal) as taken:
+        deed(*arguments)
+    case.assertIs(taken.exception.__class__, refusal)
+    told = getattr(taken.exception, field)
+    case.assertIs(told.__class__, handed.__class__)
+    case.assertEqual(told, handed)

@@ -1,4 +1,4 @@
-"""A plain model of a world, reckoned otherwise than the program does it.
+"""Plain models of a world and of a realm, reckoned otherwise than the program does it.
 
 What is known of a thing is kept as the set of all writes known, each as (asker, count). Of each write it is kept which
 writes its asker knew as it was written; so a write stands in a set where no other write of the set knew of it.
@@ -73,7 +73,8 @@ class PlainWorld:
         return self.begin("write", asker, key, self.counts[key][2], knew | {write}, [], write)
 
     def read(self, asker, key):
-        ahead = [ask["write"] for ask in self.asks if (ask["kind"], ask["key"], ask["status"]) == ("write", key, "done")]
+        ahead = [ask["write"] for ask in self.asks if (ask["kind"], ask["key"], ask["status"]) == ("write", key,
+                                                                                                   "done")]
         return self.begin("read", asker, key, self.counts[key][1], frozenset(), ahead, None)
 
     def begin(self, kind, asker, key, enough, found, ahead, write):
@@ -161,6 +162,69 @@ class PlainWorld:
             "known": {(asker, key): self.state_of(key, self.known_of(asker, key))
                       for asker in askers for key in self.counts},
         }
+
+
+class PlainRealm(PlainWorld):
+    """A plain model of a realm; what is refused is not its affair."""
+
+    def __init__(self):
+        PlainWorld.__init__(self, {})
+
+    def come(self, house, plots):
+        return self.change({**self.houses, house: tuple(sorted(plots))}, house, "came")
+
+    def go(self, house):
+        return self.change({name: plots for name, plots in self.houses.items() if name != house}, house, "went")
+
+    def weigh(self, house, plots):
+        return self.change({**self.houses, house: tuple(sorted(plots))}, house, "weighs")
+
+    def change(self, houses, house, word):
+        """Just one house changes, so each move is due to it (35)."""
+        told = []
+        shelves = {}
+        for key in sorted(self.counts):
+            before = set(self.homes[key])
+            after = set(deal(houses, key, self.counts[key][0]))
+            known = frozenset().union(*(self.shelf_of(home, key) for home in before))
+            for home in before & after:
+                shelves[home, key] = self.shelf_of(home, key)
+            if before == after:
+                continue
+            (loser,) = before - after or {None}
+            (gainer,) = after - before or {None}
+            told.append((key, loser, gainer, word, house))
+            if gainer is not None:
+                shelves[gainer, key] = known if loser is None else self.shelf_of(loser, key)
+            else:
+                for home in before & after:
+                    shelves[home, key] |= self.shelf_of(loser, key)
+        self.rehouse(houses)
+        self.shelves = shelves
+        return told
+
+    def meet(self, one, other):
+        """The nodes asked are 1 and both parts of each other node that has an unlike place in its stretch."""
+        keys = []
+        for key in sorted(self.counts):
+            if one in self.homes[key] and other in self.homes[key] and self.shelf_of(one, key) != self.shelf_of(other,
+                                                                                                                key):
+                keys.append(key)
+                known = self.shelf_of(one, key) | self.shelf_of(other, key)
+                self.shelves[one, key] = self.shelves[other, key] = known
+        above = {(256 + key) >> steps for key in keys for steps in range(1, 9)}
+        nodes = {1} | {2 * node for node in above} | {2 * node + 1 for node in above}
+        # As bits from the left a node begins all those below it: so they stand as they are asked.
+        return (keys, sorted(nodes, key=lambda node: bin(node)))
+
+    def mend(self):
+        names = sorted(self.houses)
+        told = []
+        for number, one in enumerate(names):
+            for other in names[number + 1:]:
+                keys, nodes = self.meet(one, other)
+                told.append((one, other, keys, len(nodes)))
+        return told
 
 
 def asks_of(world):

@@ -201,7 +201,8 @@ class Unlike(unittest.TestCase):
     def test_the_order_of_asking(self):
         nodes = [1, 2, 4, 8, 16, 32, 64, 128, 256, 257, 129, 65, 33, 17, 9, 5, 3]
         self.assertEqual(self.held({0: X}, {}), ([0], nodes))
-        self.assertEqual(self.held({255: X}, {})[1], [1, 2, 3, 6, 7, 14, 15, 30, 31, 62, 63, 126, 127, 254, 255, 510, 511])
+        self.assertEqual(self.held({255: X}, {})[1],
+                         [1, 2, 3, 6, 7, 14, 15, 30, 31, 62, 63, 126, 127, 254, 255, 510, 511])
         self.assertEqual(self.held({0: X, 1: X}, {0: Y}), ([0, 1], nodes))
 
     def test_all_unlike(self):

@@ -25,7 +25,8 @@ class Shelves(unittest.TestCase):
         self.assertEqual(unlike_shelves(one, other), ([], [1]))
 
     def test_shelves_that_know_unlike(self):
-        for first, second in ((V, {}), ({}, V), (V, W), (V, {"x": (1, None)}), (V, {"y": (1, "v")}), (V, {"x": (2, "v")})):
+        for first, second in ((V, {}), ({}, V), (V, W), (V, {"x": (1, None)}), (V, {"y": (1, "v")}),
+                              (V, {"x": (2, "v")})):
             keys, nodes = unlike_shelves({3: V, 7: first, 200: {}}, {3: V, 7: second, 200: {}})
             self.assertEqual((keys, len(nodes)), ([7], 17))
 
@@ -52,7 +53,8 @@ class Shelves(unittest.TestCase):
                 state = joined(chooser.choice(states), chooser.choice(states))
                 states.append(written(state, chooser.choice("xy") + str(number), "v"))
             one = {key: chooser.choice(states) for key in chooser.sample(range(256), 40)}
-            other = {key: chooser.choice(states + [one.get(key, {})]) for key in chooser.sample(sorted(one), 20) + [7, 8]}
+            other = {key: chooser.choice(states + [one.get(key, {})])
+                     for key in chooser.sample(sorted(one), 20) + [7, 8]}
             keys, nodes = unlike_shelves(one, other)
             self.assertEqual(keys, [key for key in sorted(one) if key in other and one[key] != other[key]])
             self.assertLessEqual(len(nodes), 1 + 16 * len(keys))

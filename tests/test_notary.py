@@ -7,7 +7,8 @@ from threeroofs.notary import Notary
 
 GREATEST = 10 ** 40 - 1
 CONTENTS = [
-    (0, 1), (1, 0), (1, 1), (1, 2), (2, 1), (0, GREATEST), (GREATEST, 0), (GREATEST, GREATEST), (GREATEST, GREATEST - 1),
+    (0, 1), (1, 0), (1, 1), (1, 2), (2, 1), (0, GREATEST), (GREATEST, 0), (GREATEST, GREATEST),
+    (GREATEST, GREATEST - 1),
     (("x", 0),), (("x", 1),), (("y", 1),), (("", 0),), (("x", 1), ("y", 1)), (("y", 1), ("x", 1)), (("x", 1), ("x", 1)),
     (("x", 0), ("y", 0)), (("0", 0), ("0", 0)), (("xy", 1),), (("x", 12),), (("x1", 2),), (("~" * 40, GREATEST),),
     tuple((f"a{number}", number) for number in range(40)), tuple((f"a{number}", number) for number in range(39)),

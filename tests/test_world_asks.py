@@ -35,7 +35,7 @@ def ask_of(world, number):
 
 class FoundAndMissed(unittest.TestCase):
     def setUp(self):
-        """Ask 1, x's write, is done with A and B; y's, ask 2, is at C alone; ask 3 is a read, its tolds are 13 to 15."""
+        """Ask 1, x's write, is done with A and B; y's, ask 2, is at C alone; ask 3 is a read with the tolds 13 to 15."""
         self.world = world_of(3, 2, 2)
         self.world.write("x", 0, "v")
         bring_all(self.world, [1, 2, 4, 5])
@@ -110,7 +110,7 @@ class FoundAndMissed(unittest.TestCase):
 
 class OtherHouses(unittest.TestCase):
     def setUp(self):
-        """Each of the homes A, B and C has another shelf; ask 4 is an open read, ask 5 an open write, letters 13 to 18."""
+        """Each of the homes A, B and C has another shelf; ask 4 is an open read, ask 5 an open write."""
         self.world = world_of(3, 2, 3)
         for asker, letter in (("x", 1), ("y", 6), ("z", 11)):
             self.world.write(asker, 0, "v")

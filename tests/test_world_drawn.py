@@ -6,61 +6,13 @@ import unittest
 from threeroofs.knowing import covers
 from threeroofs.world import World
 
+from drawn import ABOVE, ASKERS, NOT_ABOVE, Drawn
 from plain import PlainWorld, told_of
 from samples import some_houses
 
-ASKERS = ["x", "y", "z0"]
-KEYS = [0, 7, 110, 117, 255]
-VALUES = ["v", "w", "!~", "u" * 40]
 
-COUNTS = [(copies, reads, writes) for copies in range(1, 6) for reads in range(1, copies + 1) for writes in range(1, copies + 1)]
-ABOVE = [counts for counts in COUNTS if counts[1] + counts[2] > counts[0]]
-NOT_ABOVE = [counts for counts in COUNTS if counts not in ABOVE]
-
-
-class Drawn:
-    """A world and its plain model, to which the same deeds are done."""
-
-    def __init__(self, chooser, houses):
-        self.chooser = chooser
-        self.world = World(houses)
-        self.model = PlainWorld(houses)
-
-    def do(self, deed, *handed):
-        return (getattr(self.world, deed)(*handed), getattr(self.model, deed)(*handed))
-
-    def declare(self, counts=COUNTS):
-        key = self.chooser.choice([key for key in KEYS if key not in self.model.counts])
-        self.do("declare", key, *self.chooser.choice(counts))
-
-    def ask(self):
-        asker = self.chooser.choice(ASKERS)
-        key = self.chooser.choice(sorted(self.model.counts))
-        if self.chooser.random() < 0.5:
-            return self.do("write", asker, key, self.chooser.choice(VALUES))
-        return self.do("read", asker, key)
-
-    def letter(self, deeds):
-        if self.model.letters:
-            self.do(self.chooser.choice(deeds), self.chooser.choice(sorted(self.model.letters)))
-
-    def fall_or_rise(self):
-        if self.model.houses:
-            self.do(self.chooser.choice(["fall", "rise", "rise"]), self.chooser.choice(sorted(self.model.houses)))
-
-    def rehouse(self):
-        if not self.model.away:
-            self.do("rehouse", some_houses(self.chooser))
-
-    def lay(self):
-        """What one home or asker knows is laid at any house."""
-        if self.model.houses:
-            key = self.chooser.choice(sorted(self.model.counts))
-            house = self.chooser.choice(sorted(self.model.houses))
-            places = list(self.model.askers.items()) + list(self.model.shelves.items())
-            writes = self.chooser.choice([writes for place, writes in places if place[1] == key] + [frozenset()])
-            self.world.lay(house, key, self.model.state_of(key, writes))
-            self.model.lay(house, key, writes)
+def drawn_world(chooser, houses):
+    return Drawn(chooser, World(houses), PlainWorld(houses))
 
 
 class HeldAgainstTheModel(unittest.TestCase):
@@ -78,7 +30,7 @@ class HeldAgainstTheModel(unittest.TestCase):
             drawn.fall_or_rise()
         elif draw < 0.96:
             drawn.lay()
-        elif draw < 0.98 and len(drawn.model.counts) < len(KEYS):
+        elif draw < 0.98:
             drawn.declare()
         else:
             drawn.rehouse()
@@ -87,7 +39,7 @@ class HeldAgainstTheModel(unittest.TestCase):
         for seed in range(60):
             with self.subTest(seed=seed):
                 chooser = random.Random(seed)
-                drawn = Drawn(chooser, some_houses(chooser))
+                drawn = drawn_world(chooser, some_houses(chooser))
                 drawn.declare()
                 for deed in range(90):
                     self.step(drawn)
@@ -97,7 +49,7 @@ class HeldAgainstTheModel(unittest.TestCase):
 class WhatFollows(unittest.TestCase):
     def run_of_deeds(self, seed, counts):
         chooser = random.Random(seed)
-        drawn = Drawn(chooser, some_houses(chooser, chooser.randint(5, 11)))
+        drawn = drawn_world(chooser, some_houses(chooser, chooser.randint(5, 11)))
         for number in range(2):
             drawn.declare(counts)
         for deed in range(250):
@@ -137,7 +89,7 @@ class WhatFollows(unittest.TestCase):
     def test_shelves_and_what_askers_know_never_fall(self):
         for seed in range(20):
             chooser = random.Random(seed)
-            drawn = Drawn(chooser, some_houses(chooser, chooser.randint(3, 11)))
+            drawn = drawn_world(chooser, some_houses(chooser, chooser.randint(3, 11)))
             drawn.declare()
             before = told_of(drawn.world, ASKERS)
             for deed in range(120):
